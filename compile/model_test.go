@@ -13,6 +13,7 @@ import (
 	"hindcast/code"
 	"hindcast/compile"
 	"hindcast/syntax"
+	"hindcast/verify"
 )
 
 type node = syntax.Node
@@ -306,6 +307,9 @@ func compare(t testing.TB, src string, list []api.Kind, envs []api.Env) (api.Err
 	}
 	if _, bad := code.Encode(p); bad != api.OK {
 		t.Fatalf("X1: %.3000s: the program may not be written", src)
+	}
+	if err := verify.Verify(p, list); err != nil {
+		t.Fatalf("P7: %.3000s: the program may not run: %v\n%s", src, err, told(p))
 	}
 	if e == api.OK {
 		for _, env := range envs {
