@@ -9,6 +9,7 @@ import (
 	"hindcast/check"
 	"hindcast/code"
 	"hindcast/dice"
+	"hindcast/machine"
 	"hindcast/walk"
 )
 
@@ -199,13 +200,15 @@ func outcome(o api.Outcome) string {
 	return fmt.Sprintf("values %v commands %v events %v steps %d error %d", o.Values, o.Commands, o.Events, o.Steps, o.Err)
 }
 
-// wantSameRuns: 'What follows' (P6), the code does what the tree does.
+// wantSameRuns: 'What follows' (P6), the code does what the tree does: by the instructions' own words, and by the machine.
 func wantSameRuns(t testing.TB, src string, c *check.Checked, p api.Program, e api.Env) {
 	t.Helper()
 	for system := range p.Systems {
-		got, want := outcome(runCode(p, system, e)), outcome(walk.Run(c, system, e))
-		if got != want {
-			t.Fatalf("P6: system %d of %.3000s\nfor %v\nby code %s\nby tree %s", system, src, e, got, want)
+		want := outcome(walk.Run(c, system, e))
+		for what, got := range map[string]string{"words": outcome(runCode(p, system, e)), "machine": outcome(machine.Run(p, system, e))} {
+			if got != want {
+				t.Fatalf("P6: system %d of %.3000s\nfor %v\nby code (%s) %s\nby tree %s", system, src, e, what, got, want)
+			}
 		}
 	}
 }

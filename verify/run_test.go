@@ -11,6 +11,7 @@ import (
 	"hindcast/check"
 	"hindcast/code"
 	"hindcast/compile"
+	"hindcast/machine"
 	"hindcast/syntax"
 	"hindcast/verify"
 )
@@ -141,17 +142,20 @@ func (d *doing) touch(i api.Instr, answer *int64, x []int64) {
 	}
 }
 
-// runs lets each system run some times, for entities that have what it reads and writes, and counts how the runs end.
+// runs lets each system run some times, here and by the machine, for entities that have what it reads and writes, and counts how the runs end.
 func runs(r *rand.Rand, p api.Program, kinds []api.Kind, ends map[api.Errno]int, look func(r api.Routine, at, depth int)) {
-	for _, s := range p.Systems {
+	for number, s := range p.Systems {
 		for range 4 {
 			d := &doing{Rand: r, p: p, s: s, row: map[int64][]int64{}, look: look}
+			e := api.Env{Frame: r.Intn(5), Seed: r.Int63(), Row: api.Row{E: api.Entity{Index: r.Intn(5), Gen: 1}}}
 			for n, k := range kinds {
 				if slices.Contains(s.Reads, n+1) || slices.Contains(s.Writes, n+1) || r.Intn(2) == 0 {
 					d.row[int64(n+1)] = make([]int64, len(k.Fields))
+					e.Row.Parts = append(e.Row.Parts, api.Part{Kind: n + 1, Values: make([]int64, len(k.Fields))})
 				}
 			}
 			ends[d.run()]++
+			ends[machine.Run(p, number, e).Err]++
 		}
 	}
 }
